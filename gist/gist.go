@@ -3,8 +3,10 @@ package gist
 
 import (
 	"gist/api"
+	"gist/bundle"
 	"gist/check"
 	"gist/lowbits"
+	"gist/packet"
 )
 
 // Sender is the end that sends.
@@ -44,16 +46,24 @@ func Fits32(v uint32, ref uint32, k int, p uint32) (bool, api.Errno) {
 }
 
 // Write makes a text of a packet (P5).
-func Write(p api.Packet) (string, api.Errno) { return "", api.OK }
+func Write(p api.Packet) (string, api.Errno) {
+	return packet.Write(p)
+}
 
 // Read makes a packet of a text (P5).
-func Read(text string) (api.Packet, api.Errno) { return api.Packet{}, api.OK }
+func Read(text string) (api.Packet, api.Errno) {
+	return packet.Read(text)
+}
 
 // Join makes one text of frames (P6).
-func Join(frames []string) (string, api.Errno) { return "", api.OK }
+func Join(frames []string) (string, api.Errno) {
+	return bundle.Join(frames)
+}
 
 // Split makes frames of a text (P6).
-func Split(text string) ([]string, api.Errno) { return nil, api.OK }
+func Split(text string) ([]string, api.Errno) {
+	return bundle.Split(text)
+}
 
 // NewSender makes a sender (P7).
 func NewSender(c api.Config) (*Sender, api.Errno) { return nil, api.OK }
