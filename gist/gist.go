@@ -7,10 +7,13 @@ import (
 	"gist/check"
 	"gist/lowbits"
 	"gist/packet"
+	"gist/sender"
 )
 
 // Sender is the end that sends.
-type Sender struct{}
+type Sender struct {
+	end sender.Sender
+}
 
 // Receiver is the end that takes.
 type Receiver struct{}
@@ -66,16 +69,28 @@ func Split(text string) ([]string, api.Errno) {
 }
 
 // NewSender makes a sender (P7).
-func NewSender(c api.Config) (*Sender, api.Errno) { return nil, api.OK }
+func NewSender(c api.Config) (*Sender, api.Errno) {
+	end, err := sender.New(c)
+	if err != api.OK {
+		return nil, err
+	}
+	return &Sender{end: end}, api.OK
+}
 
 // Send makes a frame of a packet (P8).
-func (s *Sender) Send(p api.Packet) (string, api.Errno) { return "", api.OK }
+func (s *Sender) Send(p api.Packet) (string, api.Errno) {
+	return s.end.Send(p)
+}
 
 // Hear takes feedback (P9).
-func (s *Sender) Hear(feedback string) api.Errno { return api.OK }
+func (s *Sender) Hear(feedback string) api.Errno {
+	return s.end.Hear(feedback)
+}
 
 // Flows tells of the contexts (P7).
-func (s *Sender) Flows() []api.Flow { return nil }
+func (s *Sender) Flows() []api.Flow {
+	return s.end.Flows()
+}
 
 // NewReceiver makes a receiver (P10).
 func NewReceiver(c api.Config) (*Receiver, api.Errno) { return nil, api.OK }

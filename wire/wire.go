@@ -34,7 +34,12 @@ func Number(text string) uint32 {
 // Header tells all of a packet but its body.
 func Header(p api.Packet) string {
 	route := Text32(p.Src) + Text32(p.Dst) + Text16(p.Port)
-	return route + Text16(p.Seq) + Text32(p.Time) + Text16(p.Id) + Text8(p.Flags)
+	return route + Fields(p)
+}
+
+// Fields tells what stands behind the route in a packet's header.
+func Fields(p api.Packet) string {
+	return Text16(p.Seq) + Text32(p.Time) + Text16(p.Id) + Text8(p.Flags)
 }
 
 // ReadHeader makes a packet without a body of the header with which a text

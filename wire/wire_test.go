@@ -50,8 +50,14 @@ func TestHeader(t *testing.T) {
 	if s := Header(headerPacket()); s != headerText {
 		t.Errorf("Header = %x, want %x", s, headerText)
 	}
+	if s := Fields(headerPacket()); s != headerText[10:] {
+		t.Errorf("Fields = %x, want %x", s, headerText[10:])
+	}
 	if s := Header(api.Packet{Body: "body"}); s != strings.Repeat("\x00", HeaderSize) {
 		t.Errorf("Header of noughts = %x", s)
+	}
+	if s := Fields(api.Packet{Route: api.Route{Src: 1, Dst: 2, Port: 3}, Body: "body"}); s != strings.Repeat("\x00", 9) {
+		t.Errorf("Fields of noughts = %x", s)
 	}
 }
 
