@@ -3,7 +3,6 @@ package frame
 
 import (
 	"gist/api"
-	"gist/check"
 	"gist/state"
 	"gist/wire"
 )
@@ -16,30 +15,21 @@ type Place struct {
 // Make makes the frame of a packet whose state is s.
 func Make(kind uint8, at Place, p api.Packet, s state.State) string {
 	first := wire.Text8(kind<<6 | at.Turn<<4 | at.Cid<<1)
-	header := wire.Header(p)
-	return first + told(kind, header, p, s) + p.Body
+	return first + told(kind, p, s) + p.Body
 }
 
 // told tells what stands between a frame's first byte and its body.
-func told(kind uint8, header string, p api.Packet, s state.State) string {
+func told(kind uint8, p api.Packet, s state.State) string {
+	header := wire.Header(p)
+	sum := checkOf(kind, header)
 	switch kind {
 	case api.Whole:
-		return header + wire.Text16(s.Stride) + checkByte(8, header)
+		return header + wire.Text16(s.Stride) + wire.Text8(sum)
 	case api.Full:
-		return wire.Fields(p) + wire.Text16(s.Stride) + checkByte(8, header)
+		return wire.Fields(p) + wire.Text16(s.Stride) + wire.Text8(sum)
 	case api.Short:
 		low := wire.Text8(uint8(s.Seq)) + wire.Text8(uint8(s.Offset)) + wire.Text8(uint8(s.Lag))
-		return low + checkByte(7, header)
+		return low + wire.Text8(sum)
 	}
-	return tiny(header, s)
-}
-
-func tiny(header string, s state.State) string {
-	sum, _ := check.Crc(3, header)
 	return wire.Text8(uint8(s.Seq)<<4 | sum<<1)
-}
-
-func checkByte(width int, header string) string {
-	sum, _ := check.Crc(width, header)
-	return wire.Text8(sum)
 }

@@ -7,6 +7,7 @@ import (
 	"gist/check"
 	"gist/lowbits"
 	"gist/packet"
+	"gist/receiver"
 	"gist/sender"
 )
 
@@ -16,7 +17,9 @@ type Sender struct {
 }
 
 // Receiver is the end that takes.
-type Receiver struct{}
+type Receiver struct {
+	end receiver.Receiver
+}
 
 // Crc tells the check of a text (P3).
 func Crc(width int, text string) (uint8, api.Errno) {
@@ -93,12 +96,20 @@ func (s *Sender) Flows() []api.Flow {
 }
 
 // NewReceiver makes a receiver (P10).
-func NewReceiver(c api.Config) (*Receiver, api.Errno) { return nil, api.OK }
+func NewReceiver(c api.Config) (*Receiver, api.Errno) {
+	end, err := receiver.New(c)
+	if err != api.OK {
+		return nil, err
+	}
+	return &Receiver{end: end}, api.OK
+}
 
 // Take makes a packet of a frame (P11).
 func (r *Receiver) Take(frame string) (api.Packet, string, api.Errno) {
-	return api.Packet{}, "", api.OK
+	return r.end.Take(frame)
 }
 
 // Flows tells of the contexts (P10).
-func (r *Receiver) Flows() []api.Flow { return nil }
+func (r *Receiver) Flows() []api.Flow {
+	return r.end.Flows()
+}

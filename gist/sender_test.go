@@ -61,25 +61,33 @@ func TestExample5(t *testing.T) {
 	}
 }
 
+type triedConfig struct {
+	config api.Config
+	is     bool
+}
+
+// triedConfigs has each bound of a configuration and the numbers beyond.
+func triedConfigs() []triedConfig {
+	var l []triedConfig
+	for _, n := range []int{math.MinInt, -1, 0, 1, 2, 4, 5, 8, 9, 100, 101, math.MaxInt} {
+		l = append(l,
+			triedConfig{api.Config{Cids: n, Keep: 4, Refresh: 100}, n >= 1 && n <= 8},
+			triedConfig{api.Config{Cids: 8, Keep: n, Refresh: 2}, n >= 1 && n <= 4},
+			triedConfig{api.Config{Cids: 1, Keep: 1, Refresh: n}, n >= 2 && n <= 100})
+	}
+	return l
+}
+
 func TestP7Configurations(t *testing.T) {
 	for _, c := range []api.Config{{Cids: 1, Keep: 1, Refresh: 2}, {Cids: 8, Keep: 4, Refresh: 100}} {
 		if s := begun(t, c.Cids, c.Keep, c.Refresh); len(s.Flows()) != 0 {
 			t.Errorf("%+v: a new sender has %+v", c, s.Flows())
 		}
 	}
-	for _, n := range []int{math.MinInt, -1, 0, 1, 2, 4, 5, 8, 9, 100, 101, math.MaxInt} {
-		for _, c := range []struct {
-			config api.Config
-			is     bool
-		}{
-			{api.Config{Cids: n, Keep: 4, Refresh: 100}, n >= 1 && n <= 8},
-			{api.Config{Cids: 8, Keep: n, Refresh: 2}, n >= 1 && n <= 4},
-			{api.Config{Cids: 1, Keep: 1, Refresh: n}, n >= 2 && n <= 100},
-		} {
-			s, e := NewSender(c.config)
-			if (e == api.OK) != c.is || (s != nil) != c.is || (!c.is && e != api.ErrConfig) {
-				t.Errorf("NewSender(%+v) = %v, %d", c.config, s, e)
-			}
+	for _, c := range triedConfigs() {
+		s, e := NewSender(c.config)
+		if (e == api.OK) != c.is || (s != nil) != c.is || (!c.is && e != api.ErrConfig) {
+			t.Errorf("NewSender(%+v) = %v, %d", c.config, s, e)
 		}
 	}
 }

@@ -27,6 +27,19 @@ func (s State) Time() uint32 {
 	return s.Lag + way(s.Stride, s.Seq)
 }
 
+// Packet makes the packet that left this state again, with the route and the
+// body of which the state tells nothing.
+func (s State) Packet(route api.Route, body string) api.Packet {
+	return api.Packet{
+		Route: route,
+		Seq:   s.Seq,
+		Time:  s.Time(),
+		Id:    s.Offset + s.Seq,
+		Flags: s.Flags,
+		Body:  body,
+	}
+}
+
 // way is 32 bits wide, as the Time from which it is taken: cut to 16 bits it
 // would change the lag of a flow that goes on regularly.
 func way(stride uint16, seq uint16) uint32 {

@@ -64,3 +64,39 @@ func TestARegularFlow(t *testing.T) {
 		}
 	}
 }
+
+func TestPacket(t *testing.T) {
+	route := api.Route{Src: 1, Dst: 2, Port: 3}
+	for _, c := range []struct {
+		s    State
+		want api.Packet
+	}{
+		{State{}, api.Packet{}},
+		{State{Seq: 3, Stride: 10, Offset: 10, Lag: 90, Flags: 7}, api.Packet{Seq: 3, Time: 120, Id: 13, Flags: 7}},
+		{State{Seq: 10, Stride: 1, Offset: 65535, Lag: 4294967291, Flags: 255}, api.Packet{Seq: 10, Time: 5, Id: 9, Flags: 255}},
+		{State{Seq: 256, Stride: 256, Offset: 65280}, api.Packet{Seq: 256, Time: 65536}},
+		{State{Seq: 65535, Stride: 65535}, api.Packet{Seq: 65535, Time: 4294836225, Id: 65535}},
+		{State{Seq: 65535, Stride: 65535, Offset: 1, Lag: 0x20000}, api.Packet{Seq: 65535, Time: 1}},
+	} {
+		c.want.Route, c.want.Body = route, "body"
+		if p := c.s.Packet(route, "body"); p != c.want {
+			t.Errorf("%+v: %+v, want %+v", c.s, p, c.want)
+		}
+	}
+}
+
+func TestPacketsComeBack(t *testing.T) {
+	numbers := []uint32{0, 1, 255, 32768, 65535, 65536, 1 << 31, 4294836225, 4294967295}
+	for _, time := range numbers {
+		for _, seq := range numbers {
+			for _, id := range numbers {
+				for _, stride := range numbers {
+					p := api.Packet{Route: api.Route{Src: id, Dst: seq, Port: 9}, Seq: uint16(seq), Time: time, Id: uint16(id), Flags: uint8(id), Body: "body"}
+					if q := Of(p, uint16(stride)).Packet(p.Route, p.Body); q != p {
+						t.Fatalf("STRIDE %d: %+v comes back as %+v", uint16(stride), p, q)
+					}
+				}
+			}
+		}
+	}
+}

@@ -3,8 +3,12 @@ package wire
 
 import "gist/api"
 
-// HeaderSize is how many bytes a header has.
-const HeaderSize = 19
+// How many bytes a header has, and how many of them stand behind the route.
+const (
+	HeaderSize = routeSize + FieldsSize
+	FieldsSize = 9
+	routeSize  = 10
+)
 
 // Text8 tells a number of 8 bits as a byte.
 func Text8(n uint8) string {
@@ -45,16 +49,26 @@ func Fields(p api.Packet) string {
 // ReadHeader makes a packet without a body of the header with which a text
 // begins. A text that is too short for one gives a packet of noughts.
 func ReadHeader(text string) api.Packet {
-	var p api.Packet
 	if len(text) < HeaderSize {
-		return p
+		return api.Packet{}
 	}
+	p := ReadFields(text[routeSize:])
 	p.Src = Number(text[0:4])
 	p.Dst = Number(text[4:8])
 	p.Port = uint16(Number(text[8:10]))
-	p.Seq = uint16(Number(text[10:12]))
-	p.Time = Number(text[12:16])
-	p.Id = uint16(Number(text[16:18]))
-	p.Flags = text[18]
+	return p
+}
+
+// ReadFields makes a packet without a route and a body of the fields with
+// which a text begins. A text that is too short gives a packet of noughts.
+func ReadFields(text string) api.Packet {
+	if len(text) < FieldsSize {
+		return api.Packet{}
+	}
+	var p api.Packet
+	p.Seq = uint16(Number(text[0:2]))
+	p.Time = Number(text[2:6])
+	p.Id = uint16(Number(text[6:8]))
+	p.Flags = text[8]
 	return p
 }

@@ -73,3 +73,18 @@ func TestReadHeader(t *testing.T) {
 		}
 	}
 }
+
+func TestReadFields(t *testing.T) {
+	want := headerPacket()
+	want.Route = api.Route{}
+	for _, behind := range []string{"", "\xff", strings.Repeat("x", 1000)} {
+		if p := ReadFields(headerText[10:] + behind); p != want {
+			t.Errorf("ReadFields = %+v, want %+v", p, want)
+		}
+	}
+	for length := range FieldsSize {
+		if p := ReadFields(headerText[10 : 10+length]); p != (api.Packet{}) {
+			t.Errorf("ReadFields of %d bytes = %+v", length, p)
+		}
+	}
+}
